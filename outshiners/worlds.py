@@ -1,20 +1,13 @@
 """Worlds: a web, and a light for each of its lamps (point 8)."""
-from outshiners.checks import check_between, check_same_web, look_up
-from outshiners.faults import Missing, Unknown
+from outshiners.checks import check_between, check_keys, check_no_missing, check_same_web, check_values, look_up
 from outshiners.spans import check_number
 
 
 def check_lights(web, lights):
     """Raise BadNumber, Unknown or Missing for lights that make no world over the web."""
-    lamps = sorted(lights)
-    for lamp in lamps:
-        check_number(lights[lamp])
-    for lamp in lamps:
-        if lamp not in web:
-            raise Unknown(lamp)
-    for lamp in web:
-        if lamp not in lights:
-            raise Missing(lamp)
+    check_values(lights)
+    check_keys(web, lights)
+    check_no_missing(web, lights)
 
 
 class World:

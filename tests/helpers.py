@@ -1,5 +1,8 @@
-"""What several test files need: an exact comparison, checks of errors and of calls, and worlds."""
+"""What several test files need: an exact comparison, checks of errors and of calls, worlds, and searches by the words."""
 import copy
+import functools
+import itertools
+import random
 import unittest
 
 from outshiners.webs import Web
@@ -19,15 +22,32 @@ def same(left, right):
     return bool(left == right)
 
 
+class Paper(tuple):
+    """A mark for what is only passed as a tuple: a paper, or a reason of a cut row."""
+
+
+def plain(value):
+    """The same value with Python's own tuple in the place of each mark."""
+    if isinstance(value, dict):
+        return {key: plain(item) for key, item in value.items()}
+    if isinstance(value, list):
+        return [plain(item) for item in value]
+    return tuple(plain(item) for item in value) if isinstance(value, tuple) else value
+
+
 def listed(value):
-    """The same value with a list in the place of each tuple, at every depth."""
-    if isinstance(value, (list, tuple)):
+    """The same value with a list in the place of each tuple, at every depth but in papers."""
+    if isinstance(value, dict):
+        return {key: listed(item) for key, item in value.items()}
+    if isinstance(value, (list, tuple)) and not isinstance(value, Paper):
         return [listed(item) for item in value]
-    return value
+    return plain(value)
 
 
 def tupled(value):
     """The same value with a tuple in the place of each list, at every depth."""
+    if isinstance(value, dict):
+        return {key: tupled(item) for key, item in value.items()}
     if isinstance(value, (list, tuple)):
         return tuple(tupled(item) for item in value)
     return value
@@ -52,14 +72,24 @@ class Case(unittest.TestCase):
 
     def assertCall(self, call, names, values, wanted):
         """The call gives the answer by position, by name in any order, and again; it changes nothing."""
+        forms = [[other(value) for value in values] for other in (listed, tupled)]
+        values = plain(list(values))
         before = copy.deepcopy(values)
         many = len(values)
         for split in range(many + 1):
             named = dict(reversed(list(zip(names[split:], values[split:]))))
             self.assertSame(call(*values[:split], **named), wanted)
-        for other in (listed, tupled):
-            self.assertSame(call(*[other(value) for value in values]), wanted)
+        for form in forms:
+            self.assertSame(call(*form), wanted)
         self.assertSame(values, before)
+
+    def assertFreshDict(self, hand_out):
+        """A dict that is handed out can be changed without effect on the next answer."""
+        first = hand_out()
+        kept = copy.deepcopy(first)
+        first.clear()
+        first["zz"] = "changed"
+        self.assertSame(hand_out(), kept)
 
     def assertFreshList(self, hand_out):
         """What is handed out can be changed without effect on the next answer."""
@@ -100,9 +130,9 @@ def worlds_over(web, lights):
     return [World.of_row(web, row) for row in rows]
 
 
-def histories_of(world):
-    """All histories of the world, found by nothing but the words of points 11 and 12."""
-    found = [()]
+def steps_by_words(world):
+    """The pairs (bond, World after it) of all possible deeds, found by nothing but the words of points 11 and 12."""
+    found = []
     lights = world.lights
     for bond, low_end, high_end, low, high in world.web.bond_rows:
         for giver, taker in ((low_end, high_end), (high_end, low_end)):
@@ -112,6 +142,164 @@ def histories_of(world):
             ceiling = world.web.ceiling(taker)
             if ceiling is not None and light > ceiling:
                 continue
-            after = World(world.web, {**lights, taker: light})
-            found.extend((bond,) + rest for rest in histories_of(after))
+            found.append((bond, World(world.web, {**lights, taker: light})))
     return found
+
+
+def histories_of(world):
+    """All histories of the world."""
+    found = [()]
+    for bond, after in steps_by_words(world):
+        found.extend((bond,) + rest for rest in histories_of(after))
+    return found
+
+
+def lengths_by_words(world):
+    """The dict from the row of each future to the set of the lengths of the histories that lead to it."""
+    found = {}
+    now = {world.row: world}
+    length = 0
+    while now:
+        for row in now:
+            found.setdefault(row, set()).add(length)
+        now = {after.row: after for before in now.values() for _, after in steps_by_words(before)}
+        length += 1
+    return found
+
+
+def futures_by_words(world):
+    """All futures of the world, in the order of their rows."""
+    return [World.of_row(world.web, row) for row in sorted(lengths_by_words(world))]
+
+
+def passes(low, high, light):
+    """True if the light is between the two ends, of which None bounds nothing."""
+    return (low is None or low <= light) and (high is None or light <= high)
+
+
+def field_by_words(world, caps, light):
+    """The set of the lamps of the field."""
+    return {lamp for lamp in world.web if passes(world.light(lamp), caps[lamp], light)}
+
+
+def joined_by_words(world, light, lamps):
+    """The sets of those lamps that bonds that let the light pass join with one another, over these lamps."""
+    lamps = set(lamps)
+    parts = [{lamp} for lamp in sorted(lamps)]
+    for _, first, second, low, high in world.web.bond_rows:
+        if first in lamps and second in lamps and passes(low, high, light):
+            left = next(part for part in parts if first in part)
+            right = next(part for part in parts if second in part)
+            if left is not right:
+                parts.remove(right)
+                left |= right
+    return sorted(parts, key=min)
+
+
+def hanging_by_words(world, caps, light):
+    """The set of the lamps that hang."""
+    parts = joined_by_words(world, light, field_by_words(world, caps, light))
+    return set().union(*[part for part in parts if any(world.light(lamp) == light for lamp in part)])
+
+
+def is_hung_by_words(world, caps, light, lamps):
+    """True if the set of lamps is hung for the light."""
+    field = field_by_words(world, caps, light)
+    springs = {lamp for lamp in field if world.light(lamp) == light}
+    if not set(lamps) <= field - springs:
+        return False
+    parts = joined_by_words(world, light, set(lamps) | springs)
+    return all(part & springs for part in parts)
+
+
+def subsets(items):
+    """All lists of some of the items, in their order, the smaller ones first."""
+    items = list(items)
+    return [list(some) for size in range(len(items) + 1) for some in itertools.combinations(items, size)]
+
+
+def random_world(rng, most_lamps=4, most_bonds=5, lights=4):
+    """Any world with few lamps, bonds and lights."""
+    lamps = "abcdefghij"[:rng.randint(1, most_lamps)]
+    ends = [None] * 4 + list(range(-1, lights + 1))
+    lamp_rows = [(lamp, rng.choice([None, None] + list(range(lights + 1)))) for lamp in lamps]
+    bond_rows = []
+    if len(lamps) > 1:
+        for number in range(rng.randint(0, most_bonds)):
+            low, high = rng.choice(ends), rng.choice(ends)
+            if low is not None and high is not None and low > high:
+                low, high = high, low
+            bond_rows.append((f"k{number}", *rng.sample(lamps, 2), low, high))
+    return World(Web(lamp_rows, bond_rows), {lamp: rng.randrange(lights) for lamp in lamps})
+
+
+@functools.lru_cache(maxsize=None)
+def small_worlds(many=60, seed=1, most_lamps=4, most_bonds=5, lights=4):
+    """A tuple of many small worlds, the same ones in each run of one Python."""
+    rng = random.Random(seed)
+    return tuple(random_world(rng, most_lamps, most_bonds, lights) for _ in range(many))
+
+
+def random_caps(rng, world, lights=4):
+    """Any caps for the world."""
+    return {lamp: rng.choice([None] + list(range(-1, lights + 1))) for lamp in world.web}
+
+
+def random_pair(rng, world, lights=4):
+    """A world over the same web that is often, but not always, a future of the world."""
+    found = world
+    for _ in range(rng.randint(0, 8)):
+        steps = steps_by_words(found)
+        if steps:
+            found = rng.choice(steps)[1]
+    if rng.random() < 0.4:
+        found = found.with_light(rng.choice(found.web.lamps), rng.randrange(lights))
+    return found
+
+
+def random_pairs(many=150, seed=2, **sizes):
+    """Many pairs of worlds over one web."""
+    rng = random.Random(seed)
+    pairs = []
+    for _ in range(many):
+        world = random_world(rng, **sizes)
+        pairs.append((world, random_pair(rng, world)))
+    return pairs
+
+
+def random_wish(rng, world, lights=4):
+    """Any wish for the world, often one that is granted."""
+    found = random_pair(rng, world, lights)
+    return {lamp: found.light(lamp) for lamp in rng.sample(found.web.lamps, rng.randint(0, len(found.web.lamps)))}
+
+
+def random_wishes(many=150, seed=3, **sizes):
+    """Many pairs of a world and a wish."""
+    rng = random.Random(seed)
+    pairs = []
+    for _ in range(many):
+        world = random_world(rng, **sizes)
+        pairs.append((world, random_wish(rng, world)))
+    return pairs
+
+
+def granting_by_words(world, wish):
+    """All worlds that grant the wish, in the order of their rows."""
+    return [end for end in futures_by_words(world) if all(end.light(lamp) == light for lamp, light in wish.items())]
+
+
+def web_of(lamps, bonds):
+    """A web of lamps without ceilings, and of bonds that are told as `ab` or as (ends, low, high)."""
+    rows = []
+    for number, bond in enumerate(bonds):
+        ends, low, high = bond if isinstance(bond, tuple) else (bond, None, None)
+        rows.append((f"k{number:02}", ends[0], ends[1], low, high))
+    return Web([(lamp, None) for lamp in lamps], rows)
+
+
+def large_world():
+    """Ten lamps and 16 bonds: a wheel with five spokes and open groups around one spring of each of two lights."""
+    web = web_of("abcdefghij", [
+        "ab", "ac", "ad", "ae", "af", "bc", "cd", "de", "ef", "bf", "bg", "ch", "di", "ej", "gh", "ij",
+    ])
+    return World(web, {lamp: light for lamp, light in zip("abcdefghij", (9, 0, 0, 0, 0, 7, 0, 0, 1, 2))})

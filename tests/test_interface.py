@@ -18,6 +18,40 @@ FUNCTIONS = {
         "feeders(world, history)", "chain_to(world, history, lamp)", "split_at(world, history, place)",
         "joined(world, left, right)", "by_light(world, history)", "is_history(first, second, history)",
     ],
+    "texts": ["web_text(web)", "world_text(world)", "parse_web(text)", "parse_world(web, text)"],
+    "renaming": [
+        "rename_web(web, lamps=None, bonds=None)", "rename_world(world, lamps=None, bonds=None)", "numbers_of(world)",
+        "stretch(world, table)", "ranked(world)",
+    ],
+    "fields": [
+        "free_caps(world)", "springs(world, light)", "field_under(world, caps, light)",
+        "groups_under(world, caps, light)", "field(first, second, light)", "groups(first, second, light)",
+        "hanging(first, second, light)", "way(world, caps, lamp, light)", "is_way(world, caps, lamp, light, found)",
+        "bands(world, caps)", "meeting_lights(world, caps, lamp, other)",
+    ],
+    "coming": [
+        "comes(first, second)", "obstacles(first, second)", "obstacle(first, second)",
+        "is_obstacle(first, second, paper)", "is_shade(world, caps, lamp, light, lamps)", "history_to(first, second)",
+    ],
+    "joinings": [
+        "due(first, second, light)", "is_hung(first, second, light, lamps)", "least_joining(first, second, light)",
+        "greatest_joining(first, second, light)", "joining_of(first, second, light, size)",
+        "counts_by_light(first, second)", "fewest_deeds(first, second)", "most_deeds(first, second)",
+        "history_of(first, second, *, deeds=None)",
+    ],
+    "tables": [
+        "open_groups(first, second, light)", "lower_table(first, second, light)",
+        "is_lower_table(first, second, light, rows)", "table_value(first, second, light, rows)",
+        "fewest_tables(first, second)", "is_fewest(first, second, history, tables)",
+    ],
+    "wishes": [
+        "wish_caps(world, wish)", "wish_faults(world, wish)", "wish_fault(world, wish)",
+        "is_wish_fault(world, wish, paper)", "granted(world, wish=None)", "brightest(world, wish=None)",
+        "grant(world, wish=None)", "is_grant(world, wish, found, history)", "lights_of(world, wish, lamp)",
+        "dimmest_light(world, wish, lamp)", "brightest_light(world, wish, lamp)", "wish_counts(world, wish=None)",
+        "fewest_for(world, wish=None)", "most_for(world, wish=None)", "grant_in(world, wish=None, *, deeds=None)",
+        "wish_tables(world, wish=None)", "is_fewest_grant(world, wish, found, history, tables)",
+    ],
 }
 CLASSES = {
     ("spans", "Span"): [
@@ -38,7 +72,7 @@ CLASSES = {
         "classmethod flat(web, light)",
     ],
 }
-EXAMPLES = """
+EXAMPLES = r"""
 >>> from outshiners.webs import Web
 >>> from outshiners.worlds import World
 >>> W = Web([("a", None), ("b", 4), ("c", None)], [("k", "a", "b", None, None), ("m", "b", "c", 0, 3)])
@@ -52,6 +86,34 @@ EXAMPLES = """
 'ceiling'
 >>> take(S, "m").row
 (5, 3, 3)
+>>> from outshiners.texts import web_text
+>>> web_text(W)
+'web\nlamp a none\nlamp b 4\nlamp c none\nbond k a b none none\nbond m b c 0 3\nend'
+>>> from outshiners.fields import bands, free_caps
+>>> free_caps(S)
+{'a': None, 'b': 4, 'c': None}
+>>> bands(S, free_caps(S))
+[(None, 0, []), (1, 2, [('b',)]), (3, 3, [('b', 'c')]), (4, 4, [('b',), ('c',)]), (5, None, [('a',), ('c',)])]
+>>> from outshiners.coming import obstacle
+>>> obstacle(S, World(W, {"a": 5, "b": 3, "c": 5}))
+('shade', 'c', ('c',))
+>>> from outshiners.joinings import counts_by_light, history_of
+>>> counts_by_light(S, World(W, {"a": 5, "b": 3, "c": 3}))
+[(1, 0, 0), (3, 1, 1), (5, 0, 0)]
+>>> history_of(S, World(W, {"a": 5, "b": 3, "c": 3}))
+['m']
+>>> from outshiners.tables import fewest_tables
+>>> V = Web([("p", None), ("q", None), ("r", None), ("s", None)], [("e", "p", "s", None, None), ("f", "p", "q", None, 5), ("g", "p", "r", None, None)])
+>>> H = World(V, {"p": 1, "q": 1, "r": 7, "s": 5})
+>>> fewest_tables(H, World(V, {"p": 7, "q": 5, "r": 7, "s": 5}))
+[(5, [('p', (0,), 1), ('q', (0,), 0), ('s', (0,), 1)]), (7, [])]
+>>> from outshiners.wishes import brightest, lights_of, wish_faults
+>>> brightest(S).row
+(5, 3, 3)
+>>> lights_of(S, None, "b")
+[1, 3]
+>>> wish_faults(S, {"a": 4, "b": 5, "c": 5})
+[('dimmer', 'a'), ('ceiling', 'b'), ('shade', 'c', ('c',))]
 """
 
 
@@ -87,8 +149,9 @@ class Interface(unittest.TestCase):
     def test_examples(self):
         test = doctest.DocTestParser().get_doctest(EXAMPLES, {}, "interface", None, 0)
         runner = doctest.DocTestRunner(verbose=False)
+        test_count = EXAMPLES.count(">>>")
         runner.run(test)
-        self.assertEqual((runner.failures, runner.tries), (0, 9))
+        self.assertEqual((runner.failures, runner.tries), (0, test_count))
 
     def test_properties_are_only_read(self):
         for found, name in [(sample_web(), "lamps"), (sample_world(), "row"), (sample_world(), "web")]:
