@@ -52,6 +52,25 @@ FUNCTIONS = {
         "fewest_for(world, wish=None)", "most_for(world, wish=None)", "grant_in(world, wish=None, *, deeds=None)",
         "wish_tables(world, wish=None)", "is_fewest_grant(world, wish, found, history, tables)",
     ],
+    "survival": [
+        "may_survive(world, wish=None)", "must_survive(world, wish=None)", "cannot_survive(world, wish=None)",
+        "world_without(world, wish, light)", "survivors(world, wish, lights)",
+        "is_survivors(world, wish, lights, lamps, found, history)",
+    ],
+    "meeting": [
+        "common_future(first, second)", "meet(first, second)", "cuts(first, second)", "is_cuts(first, second, rows)",
+        "pasts(world, choices)",
+    ],
+    "listing": [
+        "futures(world)", "count_futures(world)", "rests(world)", "rank_of(world, other)", "world_at(world, rank)",
+        "between(first, second)", "count_histories(first, second, *, deeds=None)",
+        "histories(first, second, *, deeds=None)", "history_at(first, second, rank, *, deeds=None)",
+        "history_rank(first, second, history)",
+    ],
+    "sameness": [
+        "form(world)", "alike(left, right)", "matching(left, right)",
+        "is_matching(left, right, lamps, bonds, numbers)", "first_difference(left, right)",
+    ],
 }
 CLASSES = {
     ("spans", "Span"): [
@@ -114,6 +133,21 @@ EXAMPLES = r"""
 [1, 3]
 >>> wish_faults(S, {"a": 4, "b": 5, "c": 5})
 [('dimmer', 'a'), ('ceiling', 'b'), ('shade', 'c', ('c',))]
+>>> from outshiners.survival import survivors
+>>> survivors(H, {"q": 5}, [5, 7])
+('p', 'r')
+>>> from outshiners.meeting import common_future, is_cuts
+>>> U = World(W, {"a": 5, "b": 4, "c": 3})
+>>> common_future(S, U) is None
+True
+>>> is_cuts(S, U, [("b", 5, 1, ("ceiling",)), ("b", 4, 1, ("shade", ("b",))), ("b", 3, 2, ("dimmer",)), ("b", 1, 2, ("dimmer",))])
+True
+>>> from outshiners.listing import futures
+>>> [world.row for world in futures(S)]
+[(5, 1, 3), (5, 3, 3)]
+>>> from outshiners.sameness import form
+>>> form(S)
+(5, ((1, 3), (2, 5), (4, 5)), ((0, 1, 0, 2), (0, 2, -1, 5)))
 """
 
 
