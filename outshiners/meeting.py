@@ -7,8 +7,6 @@ from outshiners.spans import LIMIT, check_number, is_number, may_take
 from outshiners.worlds import World
 
 MOST_CANDIDATES = 64
-# The cap of a lamp without a top: below every light.
-NO_TOP = -LIMIT - 1
 
 
 def common_future(first, second):
@@ -56,8 +54,9 @@ def has_empty(sets):
 
 
 def tops_of(sets):
-    """The dict from each lamp to its top, as caps."""
-    return {lamp: max(lights, default=NO_TOP) for lamp, lights in sets.items()}
+    """The dict from each lamp to its top, as caps; a lamp without a top has a cap below every light."""
+    below_all = -LIMIT - 1
+    return {lamp: max(lights, default=below_all) for lamp, lights in sets.items()}
 
 
 def next_cut(first, second, sets):

@@ -21,7 +21,7 @@ def rename_web(web, lamps=None, bonds=None):
 def rename_world(world, lamps=None, bonds=None):
     """The World over the renamed web, in which each lamp keeps its light."""
     new_web = rename_web(world.web, lamps, bonds)
-    new_lamps, _ = new_names(world.web, lamps or {}, bonds or {})
+    new_lamps, _ = new_names(world.web, lamps or {}, {})
     return World(new_web, {new_lamps[lamp]: light for lamp, light in world})
 
 

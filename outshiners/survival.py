@@ -36,26 +36,21 @@ def world_without(world, wish, light):
 
 def brightest_without(world, told, caps, light):
     """The answer of world_without for a granted wish with these caps."""
-    lower = dict(caps)
-    lights = brightest_lights(world, lower)
-    while light in list(lights.values()):
-        # No world under these caps is brighter, so each lamp that has the light must stay below it.
-        for lamp in world.web:
-            if lights[lamp] == light and (lamp in told or world.light(lamp) == light):
-                return None
-            if lights[lamp] == light:
-                lower[lamp] = light - 1
-        if not is_granted(world, told, lower):
-            return None
-        lights = brightest_lights(world, lower)
-    return World(world.web, lights)
+    lights = brightest_lights(world, caps)
+    bearing = [lamp for lamp in world.web if lights[lamp] == light]
+    if any([lamp in told or world.light(lamp) == light for lamp in bearing]):
+        return None
+    # No world that grants the wish is brighter, so these lamps must stay below the light. The other lamps, and the told
+    # ones are among them, have other lights, and caps just below this light stop none of those.
+    lower = {lamp: light - 1 if lamp in bearing else cap for lamp, cap in caps.items()}
+    return World(world.web, brightest_lights(world, lower))
 
 
 def survivors(world, wish, lights):
     """The least tuple of lamps, one for each light, that can all burn with them at once; None if there is none."""
     told = told_for(world, wish, lights)
     check_granted(world, told)
-    return lamps_for(world, told, list(lights))
+    return lamps_for(world, told, lights)
 
 
 def told_for(world, wish, lights):

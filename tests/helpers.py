@@ -234,7 +234,7 @@ def random_world(rng, most_lamps=4, most_bonds=5, lights=4):
 
 
 @functools.lru_cache(maxsize=None)
-def small_worlds(many=60, seed=1, most_lamps=4, most_bonds=5, lights=4):
+def small_worlds(many=120, seed=1, most_lamps=4, most_bonds=5, lights=4):
     """A tuple of many small worlds, the same ones in each run of one Python."""
     rng = random.Random(seed)
     return tuple(random_world(rng, most_lamps, most_bonds, lights) for _ in range(many))
@@ -257,7 +257,7 @@ def random_pair(rng, world, lights=4):
     return found
 
 
-def random_pairs(many=150, seed=2, **sizes):
+def random_pairs(many=400, seed=2, **sizes):
     """Many pairs of worlds over one web."""
     rng = random.Random(seed)
     pairs = []
@@ -273,7 +273,7 @@ def random_wish(rng, world, lights=4):
     return {lamp: found.light(lamp) for lamp in rng.sample(found.web.lamps, rng.randint(0, len(found.web.lamps)))}
 
 
-def random_wishes(many=150, seed=3, **sizes):
+def random_wishes(many=400, seed=3, **sizes):
     """Many pairs of a world and a wish."""
     rng = random.Random(seed)
     pairs = []

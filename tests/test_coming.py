@@ -122,6 +122,15 @@ class Comes(Case):
         self.assertSame(comes(first, second), True)
         self.assertSame(is_history(first, second, history_to(first, second)), True)
 
+    def test_the_ends_of_the_numbers(self):
+        web = Web([("a", None), ("b", LIMIT), ("c", -LIMIT)], [("k", "a", "b", LIMIT, None), ("l", "b", "c", None, None)])
+        first = World.of_row(web, (LIMIT, -LIMIT, -LIMIT))
+        self.assertSame(history_to(first, World.of_row(web, (LIMIT, LIMIT, -LIMIT))), ["k"])
+        self.assertSame(obstacle(first, World.flat(web, LIMIT)), ("ceiling", "c"))
+        wanted = ("shade", "b", ("b",))
+        self.assertSame(obstacle(first, World.of_row(web, (LIMIT, LIMIT - 1, -LIMIT))), wanted)
+        self.assertSame(is_obstacle(first, World.of_row(web, (LIMIT, LIMIT - 1, -LIMIT)), wanted), True)
+
     def test_over_a_lamp_that_ends_brighter(self):
         first = path_world()
         second = World.of_row(first.web, (5, 5, 3, 3))

@@ -4,7 +4,7 @@ import unittest
 
 from helpers import (
     LIMIT, Case, field_by_words, hanging_by_words, joined_by_words, large_world, passes, path_world, random_caps,
-    random_pairs, sample_web, sample_world, small_worlds,
+    random_pairs, sample_web, sample_world, small_worlds, web_of,
 )
 
 from outshiners.faults import BadNumber, Missing, Unknown, WebsDiffer
@@ -288,6 +288,15 @@ class Bands(Case):
         self.assertSame(meeting_lights(world, caps, "a", "b"), [(None, -LIMIT), (LIMIT, None)])
         self.assertSame(meeting_lights(world, caps, "a", "a"), [(None, None)])
         self.assertSame(meeting_lights(world, {"a": -LIMIT, "b": None}, "b", "a"), [(None, -LIMIT)])
+
+    def test_meeting_lights_go_on_where_the_group_changes(self):
+        # At 4 c joins the group of a and b, at 6 it leaves it; at 2 and at 8 the bond of a and b is shut.
+        web = web_of("abc", [("ab", None, 1), ("ab", 3, 7), ("ab", 9, None), ("bc", 4, 5), ("bc", 10, 11)])
+        world = World.of_row(web, (0, 0, 0))
+        caps = {"a": None, "b": None, "c": None}
+        self.assertSame(meeting_lights(world, caps, "a", "b"), [(0, 1), (3, 7), (9, None)])
+        self.assertSame(meeting_lights(world, caps, "a", "c"), [(4, 5), (10, 11)])
+        self.assertSame(len(bands(world, caps)), 10)
 
     def test_meeting_lights_of_small_worlds(self):
         for world, caps in worlds_with_caps(30):

@@ -69,6 +69,11 @@ def is_plain(node):
     return all(isinstance(part, allowed) for part in ast.walk(node))
 
 
+def is_set(node):
+    """True if the expression makes a set."""
+    return isinstance(node, (ast.Set, ast.SetComp)) or getattr(getattr(node, "func", None), "id", None) == "set"
+
+
 class Form(unittest.TestCase):
     def setUp(self):
         self.texts = texts()
@@ -225,6 +230,63 @@ class Form(unittest.TestCase):
             code = re.sub(r'"""[^"]*"""|#[^\n]*', "", text)
             self.assertEqual(set(re.findall(r"\w+", code)) & WORDS, set(), name)
             self.assertNotRegex(text, r"_wall|dataclass|overload|contextmanager", name)
+
+    def test_sets_are_sorted_measured_asked_or_kept_in_one_name(self):
+        fitting = set()
+        for _, node in self.nodes(ast.Call):
+            if getattr(node.func, "id", None) in ("sorted", "len"):
+                fitting.update(id(argument) for argument in node.args)
+        for _, node in self.nodes(ast.Compare):
+            fitting.update(id(part) for part in [node.left, *node.comparators])
+        for name, function in self.functions:
+            stored = [node for node in ast.walk(function) if isinstance(node, ast.Assign) and is_set(node.value)]
+            for node in stored:
+                fitting.add(id(node.value))
+                target = node.targets[0]
+                uses = [n for n in ast.walk(function) if isinstance(n, ast.Name) and n.id == target.id]
+                self.assertEqual(sum(isinstance(n.ctx, ast.Store) for n in uses), 1, f"{name}:{node.lineno}")
+                parents = {id(child): parent for parent in ast.walk(function) for child in ast.iter_child_nodes(parent)}
+                for use in uses:
+                    parent = parents[id(use)]
+                    told = isinstance(parent, (ast.Assign, ast.Compare)) or getattr(parent, "attr", "") in ("add", "discard")
+                    told = told or getattr(getattr(parent, "func", None), "id", "") in ("sorted", "len")
+                    self.assertTrue(told, f"{name}:{use.lineno}")
+        for where, node in self.nodes(ast.Call, ast.Set, ast.SetComp):
+            if is_set(node):
+                self.assertIn(id(node), fitting, where)
+
+    def test_products_are_iterated_at_once(self):
+        fitting = {id(node.iter) for _, node in self.nodes(ast.For, ast.comprehension)}
+        for where, node in self.nodes(ast.Call):
+            if getattr(node.func, "id", None) in ("product", "combinations", "permutations"):
+                self.assertIn(id(node), fitting, where)
+                self.assertEqual([part for part in node.args if isinstance(part, ast.Starred)] + node.keywords, [], where)
+
+    def test_caught_errors(self):
+        own = {node.name for name, node in self.classes if name == "faults.py"}
+        for where, node in self.nodes(ast.ExceptHandler):
+            self.assertIn(getattr(node.type, "id", None), own, where)
+
+    def test_calls_pass_what_own_functions_take(self):
+        taken = {}
+        for name, tree in self.trees.items():
+            for node in tree.body:
+                if isinstance(node, ast.FunctionDef):
+                    taken.setdefault(node.name, []).append(node.args)
+        for where, node in self.nodes(ast.Call):
+            told = taken.get(getattr(node.func, "id", None), [])
+            if len(told) == 1 and not any(isinstance(part, ast.Starred) for part in node.args):
+                names = [part.arg for part in told[0].args]
+                passed = names[:len(node.args)] + [keyword.arg for keyword in node.keywords]
+                needed = names[:len(names) - len(told[0].defaults)]
+                self.assertLessEqual(len(node.args), len(names), where)
+                self.assertEqual(len(passed), len(set(passed)), where)
+                self.assertLessEqual(set(needed), set(passed), where)
+                self.assertLessEqual(set(passed), set(names) | {part.arg for part in told[0].kwonlyargs}, where)
+
+    def test_no_own_sort(self):
+        for where, node in self.nodes(ast.Attribute):
+            self.assertNotEqual(node.attr, "sort", where)
 
     def test_lazy_values_are_iterated_on_the_spot(self):
         fitting = set()

@@ -19,7 +19,7 @@ NUMBERS = (True, False, HUGE, -HUGE)
 LIGHTS = (-1, 0, 1, 2, 3, 4)
 
 
-def coming_pairs(many=150, **sizes):
+def coming_pairs(many=400, **sizes):
     """Pairs of worlds of which the second comes of the first."""
     return [pair for pair in random_pairs(many, **sizes) if comes(*pair)]
 
@@ -123,6 +123,15 @@ class Sets(Case):
             self.assertSame(least_joining(first, second, light), [])
             self.assertSame(greatest_joining(first, second, light), [])
             self.assertSame(joining_of(first, second, light, 0), [])
+
+    def test_all_that_hang_are_needed(self):
+        # b and c must take 5 so that d ends with it; they end with the 7 of e.
+        web = web_of("abcdef", ["ac", "bc", "bd", ("be", 7, 7), ("ce", 7, 7)])
+        first = World.of_row(web, (5, 0, 0, 0, 7, 0))
+        second = World.of_row(web, (5, 7, 7, 5, 7, 0))
+        wanted = ["b", "c", "d"]
+        self.assertSame((least_joining(first, second, 5), greatest_joining(first, second, 5)), (wanted, wanted))
+        self.assertSame(joining_of(first, second, 5, 3), wanted)
 
     def test_no_lamp_is_due_but_some_hang(self):
         first = path_world()

@@ -12,7 +12,6 @@ from outshiners.coming import comes
 from outshiners.deeds import is_history
 from outshiners.faults import BadNumber, TooLarge, Unknown, WebsDiffer
 from outshiners.meeting import common_future, cuts, is_cuts, meet, pasts
-from outshiners.webs import Web
 from outshiners.worlds import World
 
 HUGE = LIMIT + 1
@@ -276,6 +275,13 @@ class Pasts(Case):
         choices = {"b": [1, 2], "a": [5, 5]}
         pasts(world, choices)
         self.assertSame(choices, {"b": [1, 2], "a": [5, 5]})
+
+    def test_candidates_are_ordered_by_their_rows(self):
+        world = World.flat(web_of("ab", ["ab"]), 10 ** 6)
+        numbers = [1000, -1, 10 ** 6, 17, -10 ** 9]
+        found = pasts(world, {"b": numbers, "a": [10 ** 6, 3]})
+        rows = [(3, 10 ** 6)] + [(10 ** 6, number) for number in sorted(numbers)]
+        self.assertSame([past.row for past in found], rows)
 
     def test_empty_lists(self):
         world = large_world()

@@ -74,6 +74,7 @@ class Renamed(Case):
             self.assertFails(Unknown, {"name": "y"}, call, thing, {"z": "x", "y": "x"}, {"q": "x"})
             self.assertFails(Unknown, {"name": "q"}, call, thing, {"a": "x"}, {"q": "x"})
             self.assertFails(Unknown, {"name": ""}, call, thing, {"": "x", "0": "x"})
+            self.assertFails(Unknown, {"name": "a"}, call, thing, {}, {"z": "x", "a": "x", "k": "y"})
             self.assertFails(Doubled, {"name": "m"}, call, thing, {"z": "b"}, {"k": "m"})
 
     def test_what_is_passed_is_not_kept(self):

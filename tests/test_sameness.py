@@ -231,7 +231,13 @@ class Judged(Case):
                     self.assertSame(is_matching(world, world, *tables), False)
             self.assertSame(is_matching(world, world, *(SAME[:place] + ({},) + SAME[place + 1:])), False)
         self.assertSame(is_matching(world, world, dict(reversed(SAME[0].items())), *SAME[1:]), True)
+        self.assertSame(is_matching(world, world, SAME[0], dict(reversed(SAME[1].items())), SAME[2]), True)
         self.assertSame(is_matching(world, world, *SAME[:2], dict(reversed(SAME[2].items()))), True)
+        # The right values under a wrong key.
+        for key in ("z", "", "k", "A"):
+            self.assertSame(is_matching(world, world, {"a": "a", "b": "b", key: "c"}, *SAME[1:]), False)
+            self.assertSame(is_matching(world, world, SAME[0], {"m": "m", key + "x": "k"}, SAME[2]), False)
+        self.assertSame(is_matching(world, world, *SAME[:2], {0: 0, 1: 1, 3: 3, 4: 4, 6: 5}), False)
 
     def test_true_is_no_number(self):
         world = World.of_row(Web([("a", None), ("b", None)]), (0, 1))

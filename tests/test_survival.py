@@ -24,7 +24,7 @@ def sample_h():
     return World.of_row(web, (1, 1, 7, 5))
 
 
-def granted_wishes(many=150, **sizes):
+def granted_wishes(many=400, **sizes):
     """Triples of a world, a wish, and all worlds that grant it."""
     found = [(world, wish, granting_by_words(world, wish)) for world, wish in random_wishes(many, **sizes)]
     return [row for row in found if row[2]]

@@ -42,7 +42,7 @@ def many_groups():
     return World.of_row(web, (5, 0, 0, 0, 0, 0, 0, 0, 0, 6))
 
 
-def coming_pairs(many=120, **sizes):
+def coming_pairs(many=300, **sizes):
     """Pairs of worlds of which the second comes of the first."""
     return [pair for pair in random_pairs(many, **sizes) if comes(*pair)]
 
@@ -164,6 +164,20 @@ class Tables(Case):
         first, second = star_pair(3)
         places = [row[1] for row in lower_table(first, second, 5) if row[0] == "a"]
         self.assertSame(places, [(0,), (0, 1), (0, 1, 2), (0, 2), (1,), (1, 2), (2,)])
+
+    def test_any_lights_are_ascending(self):
+        lights = (1000000, -5, 17, -1000, 300, 8)
+        web = web_of("abcdefghijkl"[:6] + "uvwx", ["au", "bu", "cv", "dv", "ew", "fx"])
+        first = World.of_row(web, lights + (-2000,) * 4)
+        second = World.of_row(web, (lights[0], -5, 17, 17, 300, 8, -5, 17, 300, 8))
+        self.assertSame([light for light, _ in fewest_tables(first, second)], [-5, 8, 17, 300])
+        second = World.of_row(web, (lights[0], 1000000, 17, 17, 300, 8, 1000000, 17, 300, 8))
+        tables = fewest_tables(first, second)
+        self.assertSame(tables, [(8, []), (17, []), (300, []), (1000000, [])])
+        history = history_of(first, second)
+        self.assertSame(is_fewest(first, second, history, tables), True)
+        for order in itertools.permutations(tables):
+            self.assertSame(is_fewest(first, second, history, order), list(order) == tables)
 
     def test_fewest_tables(self):
         for first, second in coming_pairs():
@@ -362,6 +376,11 @@ class Fewest(Case):
         history = history_of(first, second)
         self.assertSame(is_fewest(first, second, history, [(5, []), (6, [])]), False)
         self.assertSame(is_fewest(first, second, history, []), False)
+        # Not even with a table that is fair and shows the right count.
+        rows = table_by_words(first, second, 5)
+        self.assertSame(is_fair_by_words(first, second, 5, rows), True)
+        self.assertSame([row[2] for row in rows if row[0] == "a" and len(row[1]) == 6], [1])
+        self.assertSame(is_fewest(first, second, history, [(5, rows), (6, [])]), False)
 
 
 def six_groups():

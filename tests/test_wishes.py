@@ -30,7 +30,7 @@ def caps_by_words(world, wish):
     return caps
 
 
-def granted_wishes(many=150, **sizes):
+def granted_wishes(many=400, **sizes):
     """Pairs of a world and a wish that some world grants."""
     return [(world, wish) for world, wish in random_wishes(many, **sizes) if granting_by_words(world, wish)]
 
