@@ -3,7 +3,8 @@ from outshiners.checks import check_caps, check_same_web
 from outshiners.floods import (
     field_lamps, field_springs, free_caps_of, groups_in, hanging_lamps, is_in_field, spread_over,
 )
-from outshiners.spans import LIMIT, check_number
+from outshiners.intervals import longest_intervals, turning_numbers
+from outshiners.spans import check_number
 
 
 def free_caps(world):
@@ -91,23 +92,9 @@ def bands(world, caps):
 
 def bands_in(world, caps):
     """The bands under caps that are checked already."""
-    firsts = []
-    for number in turning_numbers(world, caps):
-        together = groups_in(world, caps, number)
-        if len(firsts) == 0 or firsts[-1][1] != together:
-            firsts.append((number, together))
-    lows = [None] + [number for number, _ in firsts[1:]]
-    highs = [number - 1 for number, _ in firsts[1:]] + [None]
-    return [(low, high, together) for low, high, (_, together) in zip(lows, highs, firsts)]
-
-
-def turning_numbers(world, caps):
-    """The ascending list of the least number and of all others at which the groups can become different."""
-    lows = [row[3] for row in world.web.bond_rows]
-    highs = [row[4] for row in world.web.bond_rows]
-    begun = list(world.row) + [low for low in lows if low is not None]
-    ended = [end + 1 for end in highs + list(caps.values()) if end is not None]
-    return sorted(set([-LIMIT] + [number for number in begun + ended if -LIMIT < number <= LIMIT]))
+    return longest_intervals([
+        (number, groups_in(world, caps, number)) for number in turning_numbers(world, caps)
+    ])
 
 
 def meeting_lights(world, caps, lamp, other):

@@ -5,6 +5,8 @@ import itertools
 import random
 import unittest
 
+from outshiners.diaries import Diary
+from outshiners.pieces import Piece
 from outshiners.webs import Web
 from outshiners.worlds import World
 
@@ -303,3 +305,103 @@ def large_world():
         "ab", "ac", "ad", "ae", "af", "bc", "cd", "de", "ef", "bf", "bg", "ch", "di", "ej", "gh", "ij",
     ])
     return World(web, {lamp: light for lamp, light in zip("abcdefghij", (9, 0, 0, 0, 0, 7, 0, 0, 1, 2))})
+
+
+def fed(counts):
+    """A world in which lamps of light 0 are joined to so many brighter lamps each, which themselves take nothing.
+
+    Each lamp can have its own light or one of those, so that the futures are the product of the counts plus one.
+    """
+    takers = [(f"a{place}", None) for place in range(len(counts))]
+    givers = [(f"z{number}", 0) for number in range(max(counts))]
+    bonds = [
+        (f"k{place}{number}", f"a{place}", f"z{number}", None, None)
+        for place, count in enumerate(counts) for number in range(count)
+    ]
+    web = Web(takers + givers, bonds)
+    return World(web, {lamp: 0 if lamp[0] == "a" else 1 + int(lamp[1]) for lamp in web})
+
+
+def world_with(many):
+    """A world with exactly so many futures: 100, 101, 400 or 401."""
+    if many == 100:
+        return fed((3, 4, 4))
+    if many == 400:
+        return fed((3, 3, 4, 4))
+    # 101 and 401 are prime numbers; these worlds were found by a search.
+    if many == 101:
+        bonds = [("cg", None, 5), ("ce", None, 5), ("bd", None, 3), "cf", "df", "ef", ("bc", None, 5), "fg", "ae"]
+        return World.of_row(web_of("abcdefg", bonds + [("ac", None, 3)]), (5, 3, 3, 2, 2, 2, 6))
+    bonds = [("bg", None, 5), ("df", None, 3), ("ae", None, 5), "de", "dg", "ef", "cf", "bh", "ac", "fh"]
+    return World.of_row(web_of("abcdefgh", bonds), (1, 0, 1, 5, 4, 2, 5, 2))
+
+
+def end_of(world):
+    """The world at rest in which each lamp has the greatest light that it can get."""
+    return max(futures_by_words(world), key=lambda future: sum(future.row))
+
+
+def random_piece(rng, most_lamps=6, most_bonds=8):
+    """Any piece with few lights."""
+    world = random_world(rng, most_lamps, most_bonds)
+    lamps = world.web.lamps
+    return Piece(world, rng.sample(lamps, rng.randint(0, min(3, len(lamps)))))
+
+
+def with_fewer(rng, piece, most=3):
+    """The piece without some inner lamps and bonds."""
+    for _ in range(rng.randint(0, most)):
+        web = piece.world.web
+        lamps = piece.inner if len(web.lamps) > 1 else []
+        parts = [piece.without_lamp(lamp) for lamp in lamps] + [piece.without_bond(bond) for bond in web.bonds]
+        if parts:
+            piece = rng.choice(parts)
+    return piece
+
+
+def random_surrounding(rng, piece, lights=4):
+    """Any piece that can be glued to this one, with its border and with names of its own."""
+    inner = [f"y{number}" for number in range(rng.randint(0 if piece.border else 1, 3))]
+    lamp_rows = [(lamp, ceiling) for lamp, _, ceiling in piece.border_rows]
+    lamp_rows += [(lamp, rng.choice([None, None] + list(range(lights + 1)))) for lamp in inner]
+    names = [lamp for lamp, _ in lamp_rows]
+    ends = [None] * 4 + list(range(lights))
+    bond_rows = []
+    if len(names) > 1:
+        for number in range(rng.randint(0, 4)):
+            low, high = rng.choice(ends), rng.choice(ends)
+            if low is not None and high is not None and low > high:
+                low, high = high, low
+            bond_rows.append((f"y{number}", *rng.sample(names, 2), low, high))
+    shone = {lamp: light for lamp, light, _ in piece.border_rows}
+    shone.update({lamp: rng.randrange(lights) for lamp in inner})
+    return Piece(World(Web(lamp_rows, bond_rows), shone), piece.border)
+
+
+def random_diary(rng, most_moments=3, most_sightings=4, lights=4):
+    """Any small diary, often one that fits."""
+    ends = []
+    while len(ends) < 3:
+        start = random_world(rng, 4, 5, lights)
+        ends = futures_by_words(start)
+    gaps = [rng.choice([None, 0, 1, 1, 1, 2]) for _ in range(rng.randint(1, most_moments))]
+    seen = {}
+    for _ in range(rng.randint(0, most_sightings)):
+        lamp = rng.choice(start.web.lamps)
+        seen[(rng.randint(1, len(gaps)), lamp)] = rng.choice(ends).light(lamp)
+    return Diary(start, gaps, [(moment, lamp, light) for (moment, lamp), light in seen.items()])
+
+
+def runs_by_words(start, gaps, sightings):
+    """All runs by the words of point 36, as lists of rows."""
+    runs = [[start.row]]
+    for moment, gap in enumerate(gaps, start=1):
+        longer = []
+        for run in runs:
+            for row, lengths in sorted(lengths_by_words(World.of_row(start.web, run[-1])).items()):
+                lights = dict(zip(start.web.lamps, row))
+                holds = all(lights[lamp] == light for when, lamp, light in sightings if when == moment)
+                if holds and (gap is None or min(lengths) <= gap):
+                    longer.append(run + [row])
+        runs = longer
+    return [run[1:] for run in runs]

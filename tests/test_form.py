@@ -235,7 +235,13 @@ class Form(unittest.TestCase):
         fitting = set()
         for _, node in self.nodes(ast.Call):
             if getattr(node.func, "id", None) in ("sorted", "len"):
-                fitting.update(id(argument) for argument in node.args)
+                # Several sets may be joined by signs, each one written there.
+                waiting = list(node.args)
+                while waiting:
+                    argument = waiting.pop()
+                    fitting.add(id(argument))
+                    if isinstance(argument, ast.BinOp):
+                        waiting += [argument.left, argument.right]
         for _, node in self.nodes(ast.Compare):
             fitting.update(id(part) for part in [node.left, *node.comparators])
         for name, function in self.functions:
@@ -253,13 +259,13 @@ class Form(unittest.TestCase):
                     self.assertTrue(told, f"{name}:{use.lineno}")
         for where, node in self.nodes(ast.Call, ast.Set, ast.SetComp):
             if is_set(node):
-                self.assertIn(id(node), fitting, where)
+                self.assertTrue(id(node) in fitting, where)
 
     def test_products_are_iterated_at_once(self):
         fitting = {id(node.iter) for _, node in self.nodes(ast.For, ast.comprehension)}
         for where, node in self.nodes(ast.Call):
             if getattr(node.func, "id", None) in ("product", "combinations", "permutations"):
-                self.assertIn(id(node), fitting, where)
+                self.assertTrue(id(node) in fitting, where)
                 self.assertEqual([part for part in node.args if isinstance(part, ast.Starred)] + node.keywords, [], where)
 
     def test_caught_errors(self):
@@ -293,14 +299,17 @@ class Form(unittest.TestCase):
         for _, node in self.nodes(ast.For, ast.comprehension):
             fitting.add(id(node.iter))
         for _, node in self.nodes(ast.Call):
-            if getattr(node.func, "id", getattr(node.func, "attr", None)) in ITERATED_BY:
+            name = getattr(node.func, "id", getattr(node.func, "attr", None))
+            if name in ITERATED_BY:
                 fitting.update(id(argument) for argument in node.args)
+            if name == "reversed" and getattr(getattr(node.args[0], "func", None), "id", None) == "range":
+                fitting.add(id(node.args[0]))
         for _, node in self.nodes(ast.Assign):
             if getattr(getattr(node.value, "func", None), "id", None) == "range":
                 fitting.add(id(node.value))
         for where, node in self.nodes(ast.Call):
             if getattr(node.func, "id", getattr(node.func, "attr", None)) in LAZY:
-                self.assertIn(id(node), fitting, where)
+                self.assertTrue(id(node) in fitting, where)
 
 
 if __name__ == "__main__":

@@ -71,6 +71,18 @@ FUNCTIONS = {
         "form(world)", "alike(left, right)", "matching(left, right)",
         "is_matching(left, right, lamps, bonds, numbers)", "first_difference(left, right)",
     ],
+    "pieces": ["glue(first, second)"],
+    "borders": [
+        "table_at(piece, light)", "tables(piece)", "least_difference(first, second)", "alike_in_all(first, second)",
+        "telling(first, second)", "is_telling(first, second, surrounding, wish)", "smaller(piece)", "is_tight(piece)",
+    ],
+    "diaries": [
+        "diary_along(world, history, stops, lamps)", "fits(diary)", "worlds_at(diary, moment)",
+        "may_burn(diary, moment, lamp)", "must_burn(diary, moment, lamp)", "run_of(diary)", "is_run(diary, worlds)",
+    ],
+    "doubts": [
+        "first_misfit(diary)", "conflict(diary)", "is_conflict(diary, places)", "wrong_sightings(diary, *, most=2)",
+    ],
 }
 CLASSES = {
     ("spans", "Span"): [
@@ -89,6 +101,14 @@ CLASSES = {
         "light(self, lamp)", "lamps_with(self, light)", "with_light(self, lamp, light)", "over(self, web)",
         "under(self, other)", "__contains__", "__iter__", "__or__", "__eq__", "classmethod of_row(web, row)",
         "classmethod flat(web, light)",
+    ],
+    ("pieces", "Piece"): [
+        "__init__(self, world, border=())", "property world", "property border", "property inner",
+        "property border_rows", "without_lamp(self, lamp)", "without_bond(self, bond)", "__eq__",
+    ],
+    ("diaries", "Diary"): [
+        "__init__(self, start, gaps, sightings=())", "property start", "property gaps", "property sightings",
+        "property moments", "without(self, places)", "with_sighting(self, moment, lamp, light)", "__eq__",
     ],
 }
 EXAMPLES = r"""

@@ -3,8 +3,8 @@ import itertools
 import unittest
 
 from helpers import (
-    LIMIT, Case, futures_by_words, histories_of, lengths_by_words, path_world, random_pairs, sample_world, small_worlds,
-    steps_by_words, web_of,
+    LIMIT, Case, end_of, futures_by_words, histories_of, lengths_by_words, path_world, random_pairs, sample_world,
+    small_worlds, steps_by_words, web_of, world_with,
 )
 
 from outshiners.coming import comes, obstacle
@@ -19,35 +19,6 @@ from outshiners.worlds import World
 
 HUGE = LIMIT + 1
 NUMBERS = (True, False, HUGE, -HUGE)
-
-
-def fed(counts):
-    """A world in which lamps of light 0 are joined to so many brighter lamps each, which themselves take nothing.
-
-    Each lamp can have its own light or one of those, so that the futures are the product of the counts plus one.
-    """
-    takers = [(f"a{place}", None) for place in range(len(counts))]
-    givers = [(f"z{number}", 0) for number in range(max(counts))]
-    bonds = [
-        (f"k{place}{number}", f"a{place}", f"z{number}", None, None)
-        for place, count in enumerate(counts) for number in range(count)
-    ]
-    web = Web(takers + givers, bonds)
-    return World(web, {lamp: 0 if lamp[0] == "a" else 1 + int(lamp[1]) for lamp in web})
-
-
-def world_with(many):
-    """A world with exactly so many futures: 100, 101, 400 or 401."""
-    if many == 100:
-        return fed((3, 4, 4))
-    if many == 400:
-        return fed((3, 3, 4, 4))
-    # 101 and 401 are prime numbers; these worlds were found by a search.
-    if many == 101:
-        bonds = [("cg", None, 5), ("ce", None, 5), ("bd", None, 3), "cf", "df", "ef", ("bc", None, 5), "fg", "ae"]
-        return World.of_row(web_of("abcdefg", bonds + [("ac", None, 3)]), (5, 3, 3, 2, 2, 2, 6))
-    bonds = [("bg", None, 5), ("df", None, 3), ("ae", None, 5), "de", "dg", "ef", "cf", "bh", "ac", "fh"]
-    return World.of_row(web_of("abcdefgh", bonds), (1, 0, 1, 5, 4, 2, 5, 2))
 
 
 def worlds_with_histories(many):
@@ -69,11 +40,6 @@ def doubled_pairs(many, times):
     ]
     web = Web([(f"{side}{pair}", None) for side in "ab" for pair in range(many)], rows)
     return World(web, {lamp: 1 if lamp[0] == "a" else 0 for lamp in web})
-
-
-def end_of(world):
-    """The world at rest in which each lamp has the greatest light that it can get."""
-    return max(futures_by_words(world), key=lambda future: sum(future.row))
 
 
 def count_by_words(first, second, deeds):
