@@ -405,3 +405,54 @@ def runs_by_words(start, gaps, sightings):
                     longer.append(run + [row])
         runs = longer
     return [run[1:] for run in runs]
+
+
+def random_statement(rng, lamps, depth, in_each, lights):
+    """Any right statement that may stand at this depth; a deeper one has fewer statements in it."""
+    names = list(lamps) + (["*", "*"] if in_each else [])
+    words = ["light", "offer", "offer", "spread"] + (["until", "each"] if depth < 3 else ["until"])
+    word = rng.choice(words if len(set(names)) > 1 else ["spread", "until", "each"])
+    if word in ("light", "offer"):
+        return (word, *rng.sample(sorted(set(names)), 2))
+    if word == "spread":
+        return (word, rng.randint(0, lights))
+    more = 0 if depth == 3 else rng.randint(0, 3)
+    if word == "until":
+        body = [random_statement(rng, lamps, depth + 1, in_each, lights) for _ in range(more)]
+        return (word, rng.choice(names), rng.randint(0, lights), tuple(body))
+    body = [random_statement(rng, lamps, depth + 1, True, lights) for _ in range(more)]
+    return (word, tuple(rng.sample(lamps, rng.randint(1, min(4, len(lamps))))), tuple(body))
+
+
+def count_statements(body):
+    """The count of all statements, those in bodies counted."""
+    return sum(1 + (count_statements(row[-1]) if row[0] in ("until", "each") else 0) for row in body)
+
+
+def random_errand(rng, lamps="abcd", most=4, lights=4):
+    """The statements of any errand with at most 16 statements."""
+    while True:
+        found = tuple(random_statement(rng, list(lamps), 1, False, lights) for _ in range(rng.randint(0, most)))
+        if count_statements(found) <= 16:
+            return found
+
+
+def places_by_words(body, around=()):
+    """The pairs (place, statement) in reading order."""
+    found = []
+    for at, row in enumerate(body):
+        found.append((around + (at,), row))
+        if row[:1] in (("until",), ("each",)) and isinstance(row[-1], tuple):
+            found += places_by_words(row[-1], around + (at,))
+    return found
+
+
+def with_statement(body, place, statement):
+    """The same statements with another one at the place; None instead of a statement takes it away."""
+    at, *deeper = place
+    if deeper:
+        row = body[at]
+        put = (row[:-1] + (with_statement(row[-1], deeper, statement),),)
+    else:
+        put = () if statement is None else (statement,)
+    return body[:at] + put + body[at + 1:]

@@ -2,10 +2,12 @@
 import doctest
 import importlib
 import inspect
+import os
 import unittest
 
 from helpers import sample_web, sample_world
 
+README = os.path.join(os.path.dirname(os.path.dirname(os.path.abspath(__file__))), "README.md")
 FUNCTIONS = {
     "names": ["is_name(text)", "check_name(text)", "ordered(names)", "fresh_name(names, *, prefix='x')"],
     "spans": [
@@ -83,6 +85,21 @@ FUNCTIONS = {
     "doubts": [
         "first_misfit(diary)", "conflict(diary)", "is_conflict(diary, places)", "wrong_sightings(diary, *, most=2)",
     ],
+    "mending": [
+        "lifts(first, second)", "mended(web, lamps, bonds)", "mend(first, second, *, most=2)",
+        "is_mend(first, second, lamps, bonds)", "drops(world, wish, *, most=2)",
+    ],
+    "statements": [
+        "check_errand(statements)", "errand_text(statements)", "parse_errand(text)", "lamps_named(statements)",
+    ],
+    "errands": [
+        "reached(errand, world)", "errand_of(world, history)", "errands_part(web, lights, first, second)",
+    ],
+    "claims": [
+        "is_true(world, claim)", "claim_to(first, second)", "claim_wish(world, wish=None)",
+        "claim_fewest(first, second)",
+    ],
+    "book": ["audit(world, rows)", "rebuilt(world, rows)", "first_unlike(first, second)"],
 }
 CLASSES = {
     ("spans", "Span"): [
@@ -109,6 +126,16 @@ CLASSES = {
     ("diaries", "Diary"): [
         "__init__(self, start, gaps, sightings=())", "property start", "property gaps", "property sightings",
         "property moments", "without(self, places)", "with_sighting(self, moment, lamp, light)", "__eq__",
+    ],
+    ("errands", "Errand"): [
+        "__init__(self, statements=())", "property statements", "property text", "property size",
+        "staticmethod parse(text)", "__add__", "__eq__", "__iter__", "__call__",
+    ],
+    ("book", "Book"): [
+        "__init__(self, start)", "property start", "property world", "property rows", "property verdicts",
+        "deed(self, bond)", "set_ceiling(self, lamp, ceiling)", "set_span(self, bond, low, high)",
+        "claim(self, claim)", "errand(self, errand)", "undo(self, count=1)", "world_at(self, place)", "twin(self)",
+        "__iter__", "__eq__",
     ],
 }
 EXAMPLES = r"""
@@ -168,6 +195,19 @@ True
 >>> from outshiners.sameness import form
 >>> form(S)
 (5, ((1, 3), (2, 5), (4, 5)), ((0, 1, 0, 2), (0, 2, -1, 5)))
+>>> from outshiners.errands import Errand
+>>> job = Errand.parse("each a c\n  offer b from *\ndone\nuntil b 4\n  spread 3\ndone")
+>>> word, world, history, place, cause = job(S)
+>>> (word, world.row, history, place, cause)
+('halted', (5, 3, 3), ['m'], (1,), 'idle')
+>>> from outshiners.book import Book
+>>> from outshiners.claims import claim_wish
+>>> book = Book(S)
+>>> claim = claim_wish(S, {"b": 3})
+>>> claim
+('granted', (('b', 3),), (5, 3, 3), ('m',))
+>>> [book.claim(claim), book.deed("m").row, book.claim(claim), book.verdicts]
+[True, (5, 3, 3), False, [(0, True), (2, False)]]
 """
 
 
@@ -206,6 +246,14 @@ class Interface(unittest.TestCase):
         test_count = EXAMPLES.count(">>>")
         runner.run(test)
         self.assertEqual((runner.failures, runner.tries), (0, test_count))
+
+    def test_the_readme(self):
+        with open(README, encoding="utf-8") as file:
+            text = file.read().replace("```", "")
+        test = doctest.DocTestParser().get_doctest(text, {}, "readme", None, 0)
+        runner = doctest.DocTestRunner(verbose=False)
+        runner.run(test)
+        self.assertEqual((runner.failures, runner.tries), (0, text.count(">>>")))
 
     def test_properties_are_only_read(self):
         for found, name in [(sample_web(), "lamps"), (sample_world(), "row"), (sample_world(), "web")]:
