@@ -6,8 +6,9 @@ from outshiners.spans import check_number
 def check_lights(web, lights):
     """Raise BadNumber, Unknown or Missing for lights that make no world over the web."""
     check_values(lights)
-    check_keys(web, lights)
-    check_no_missing(web, lights)
+    if sorted(lights) != web.lamps:
+        check_keys(web, lights)
+        check_no_missing(web, lights)
 
 
 class World:
@@ -79,10 +80,12 @@ class World:
     @classmethod
     def of_row(cls, web, row):
         """The World with this row, a list of numbers."""
-        for light in row:
-            check_number(light)
         lamps = web.lamps
-        check_between(len(row), len(lamps), len(lamps))
+        if len(row) != len(lamps):
+            # A bad number goes ahead of the length; where the length is right, it is found below.
+            for light in row:
+                check_number(light)
+            check_between(len(row), len(lamps), len(lamps))
         return cls(web, dict(zip(lamps, row)))
 
     @classmethod

@@ -42,16 +42,24 @@ def doubled_pairs(many, times):
     return World(web, {lamp: 1 if lamp[0] == "a" else 0 for lamp in web})
 
 
+def counts_by_words(first, second, most):
+    """The counts of the histories of each length from 0 on, by a plain reading of points 13 and 28."""
+    steps = {world.row: [after.row for _, after in steps_by_words(world)] for world in futures_by_words(first)}
+    now = {first.row: 1}
+    counts = []
+    for _ in range(most + 1):
+        counts.append(now.get(second.row, 0))
+        later = {}
+        for row, many in now.items():
+            for after in steps[row]:
+                later[after] = later.get(after, 0) + many
+        now = later
+    return counts
+
+
 def count_by_words(first, second, deeds):
     """The count of the histories of this length from first to second."""
-    now = {first.row: 1}
-    for _ in range(deeds):
-        after_this = {}
-        for row, many in now.items():
-            for _, after in steps_by_words(World.of_row(first.web, row)):
-                after_this[after.row] = after_this.get(after.row, 0) + many
-        now = after_this
-    return now.get(second.row, 0)
+    return counts_by_words(first, second, deeds)[deeds]
 
 
 def histories_between(first, second, deeds):
@@ -136,6 +144,71 @@ class Futures(Case):
         world = World.of_row(web_of("abcdefghij", bonds), (9, 8, 7, 6, 5, 4, 3, 2, 1, 0))
         self.assertFails(TooLarge, {"limit": 400}, futures, world)
         self.assertFails(TooLarge, {"limit": 100}, count_histories, world, world)
+
+
+def star_worlds():
+    """Ten lamps and 16 bonds: two worlds between which there are many histories over 64 worlds."""
+    rows = [(f"k{place}", "a", end, None, None) for place, end in enumerate("bcdefgbcdefg")]
+    rows += [(f"m{place}", "h", end, None, 0) for place, end in enumerate("bcde")]
+    web = Web([(lamp, None) for lamp in "abcdefghij"], rows)
+    return World.of_row(web, (9, 1, 1, 1, 1, 1, 1, 5, 5, 5)), World.of_row(web, (9, 9, 9, 9, 9, 9, 9, 5, 5, 5))
+
+
+def widened(world):
+    """The same world with more lamps and bonds, over which nothing can be done, up to ten lamps and 16 bonds."""
+    web = world.web
+    lamps = [(f"zz{number}", None) for number in range(10 - len(web.lamps))]
+    more = [(f"zz{number}", "zz0", "zz1", None, None) for number in range(16 - len(web.bonds))]
+    wide = Web(web.lamp_rows + lamps, web.bond_rows + more)
+    return World(wide, {**{lamp: 3 for lamp, _ in lamps}, **world.lights})
+
+
+class Often(Case):
+    def test_the_counts_of_all_lengths(self):
+        first, second = star_worlds()
+        self.assertSame(len(futures_by_words(first)), 64)
+        found = [count_histories(first, second, deeds=deeds) for deeds in range(46)]
+        self.assertSame(found, counts_by_words(first, second, 45))
+        self.assertSame(found[6], 720 * 64)
+
+    def test_all_pairs_of_futures(self):
+        first = path_world()
+        ends = futures_by_words(first)
+        for one in ends:
+            for two in ends:
+                if comes(one, two):
+                    found = [count_histories(one, two, deeds=deeds) for deeds in range(8)]
+                    self.assertSame(found, counts_by_words(one, two, 7))
+
+    def test_the_largest_webs(self):
+        for many in (100, 400):
+            world = widened(world_with(many))
+            self.assertSame((len(world.web.lamps), len(world.web.bonds)), (10, 16))
+            ends = futures_by_words(world)
+            self.assertSame(futures(world), ends)
+            self.assertSame(count_futures(world), many)
+            self.assertSame([rank_of(world, end) for end in ends[::37]], list(range(0, many, 37)))
+        world = widened(world_with(100))
+        for end in futures_by_words(world)[::9]:
+            wanted = counts_by_words(world, end, 12)
+            self.assertSame([count_histories(world, end, deeds=deeds) for deeds in range(13)], wanted)
+            for deeds, many in enumerate(wanted):
+                for rank in range(0, many, 1 + many // 3):
+                    history = history_at(world, end, rank, deeds=deeds)
+                    self.assertSame(is_history(world, end, history), True)
+                    self.assertSame(history_rank(world, end, history), rank)
+
+    def test_the_places_of_very_many_histories(self):
+        first, second = star_worlds()
+        before = None
+        for rank in range(0, 46080, 1021):
+            history = history_at(first, second, rank)
+            self.assertSame(is_history(first, second, history), True)
+            self.assertSame(history_rank(first, second, history), rank)
+            self.assertSame(before is None or before < history, True)
+            before = history
+        self.assertFails(TooLarge, {"limit": 400}, histories, first, second)
+        self.assertFails(OutOfRange, {"number": 46080, "low": 0, "high": 46079}, history_at, first, second, 46080)
 
 
 class Histories(Case):
