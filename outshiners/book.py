@@ -94,7 +94,7 @@ class Book:
     def twin(self):
         """A new Book with the same start and the same rows."""
         other = Book(self.start)
-        for row, after in zip(self._rows, self._worlds[1:]):
+        for row, after in zip(self.rows, self._worlds[1:]):
             other.file_row(row, after)
         return other
 

@@ -5,28 +5,29 @@ A world with many futures is asked for all their deeds; so nothing here makes a 
 from outshiners.faults import TooLarge
 from outshiners.spans import LIMIT
 
-# Ends beyond all numbers, which bound none of them.
-BELOW_ALL = -LIMIT - 1
-ABOVE_ALL = LIMIT + 1
-
 
 def arcs_of(web):
     """The list of (bond, place of the giver, place of the taker, low, high, ceiling of the taker) in name order.
 
-    Each bond has two arcs, one for each direction. In the place of None stands a number beyond all numbers.
+    Each bond has two arcs, one for each direction. In the place of None stands the number that bounds nothing.
     """
-    places = {lamp: place for place, lamp in enumerate(web)}
+    places = lamp_places(web)
     arcs = []
     for bond, first, second, low, high in web.bond_rows:
-        least = BELOW_ALL if low is None else low
+        least = -LIMIT if low is None else low
         for giver, taker in ((first, second), (second, first)):
             arcs.append((bond, places[giver], places[taker], least, upper(high), upper(web.ceiling(taker))))
     return arcs
 
 
+def lamp_places(web):
+    """The dict from the lamps of the web to their places in a row."""
+    return {lamp: place for place, lamp in enumerate(web)}
+
+
 def upper(end):
-    """The high or the ceiling; a number above all numbers if it is None."""
-    return ABOVE_ALL if end is None else end
+    """The high or the ceiling; the greatest number if it is None."""
+    return LIMIT if end is None else end
 
 
 def row_after(row, taker, light):

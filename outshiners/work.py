@@ -1,14 +1,9 @@
 """How an errand runs over a world (point 41), of arguments that are checked already."""
 from outshiners.faults import Halted
-from outshiners.reach import arcs_of, row_after
+from outshiners.reach import arcs_of, lamp_places, row_after
 from outshiners.statements import CURRENT
 
 MOST_BEGUN = 300
-
-
-def lamp_places(web):
-    """The dict from the lamps of the web to their places in a row."""
-    return {lamp: place for place, lamp in enumerate(web)}
 
 
 class Work:

@@ -226,6 +226,16 @@ class Full(Case):
         self.assertSame(book.deed("m").row, (5, 3, 3))
         self.assertFails(TooLarge, {"limit": 100}, book.deed, "m")
 
+    def test_the_100th_row(self):
+        for call in (
+            lambda book: book.deed("m"), lambda book: book.set_ceiling("a", 5), lambda book: book.set_span("k", 1, 2),
+            lambda book: book.claim(CLAIM), lambda book: book.errand(Errand.parse("light b from c")),
+        ):
+            book = full_book(99)
+            call(book)
+            self.assertSame(len(book.rows), 100)
+            self.assertFails(TooLarge, {"limit": 100}, book.claim, CLAIM)
+
     def test_errors_that_go_ahead(self):
         book = full_book()
         for bad in BAD_NAMES:

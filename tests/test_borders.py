@@ -12,6 +12,7 @@ from outshiners.borders import (
 )
 from outshiners.faults import BadNumber, BordersDiffer
 from outshiners.pieces import Piece, glue
+from outshiners.renaming import numbers_of, stretch
 from outshiners.webs import Web
 from outshiners.wishes import granted
 from outshiners.worlds import World
@@ -207,6 +208,20 @@ class Alike(Case):
                 self.assertSame(table_at(first, found - 1), table_at(second, found - 1))
         self.assertGreater(differ, 60)
 
+    def test_least_difference_of_numbers_far_apart(self):
+        rng = random.Random(74)
+        for first, second in fitting_pairs(150, seed=75):
+            old = sorted(set(numbers_of(first.world) + numbers_of(second.world)))
+            new = sorted(rng.sample(range(-9999, 9999), len(old)))
+            left, right = [
+                Piece(stretch(piece.world, dict(zip(old, new))), piece.border) for piece in (first, second)
+            ]
+            numbers = sorted(set(turns(left) + turns(right)))
+            differ = [number for number in numbers if table_by_words(left, number) != table_by_words(right, number)]
+            self.assertSame(least_difference(left, right), differ[0] if differ else None)
+            if differ:
+                self.assertSame(is_telling(left, right, *telling(left, right)), True)
+
     def test_alike_in_many_surroundings(self):
         rng = random.Random(63)
         asked = 0
@@ -305,7 +320,9 @@ class Alike(Case):
             chain([], p=2), chain([], p=1, q=1), chain([], a=5, p=1), bond, Piece(World(Web([("p", None)]), {"p": 1})),
             Piece(World(Web([("p", 9)]), {"p": 1}), ["p"]), Piece(World(Web([("z", None)]), {"z": 1})),
         ):
-            self.assertSame(is_telling(first, second, around, {"p": 5} if "p" in around.world.web else {}), False)
+            wish = {"p": 5} if "p" in around.world.web else {}
+            self.assertSame(is_telling(first, second, around, wish), False)
+            self.assertSame(is_telling(second, first, around, wish), False)
 
     def test_surroundings_that_are_too_large(self):
         lights = {lamp: 0 for lamp in "abcde"}
@@ -316,6 +333,7 @@ class Alike(Case):
         around = Piece(World.flat(web_of("pvwxyz", []), 1), ["p"])
         self.assertSame(is_telling(first, second, around, {"p": 5}), False)
         self.assertSame(is_telling(first, chain([], p=1), around, {"p": 5}), False)
+        self.assertSame(is_telling(chain([], p=1), first, around, {"p": 5}), False)
 
     def test_borders_differ(self):
         first = chain(["ap"], a=5, p=1, q=3)

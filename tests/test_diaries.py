@@ -240,6 +240,23 @@ class Runs(Case):
         for sightings, wanted in [([(1, "b", 5)], True), ([(2, "b", 1)], True), ([(1, "b", 5), (2, "b", 1)], False)]:
             self.assertSame(fits(Diary(start, [1, 2], sightings)), wanted)
 
+    def test_a_run_goes_from_world_to_world(self):
+        # c gets its light over a or over b; only who has it over a can be where a burns at the next moment.
+        start = World.of_row(web_of("abcz", ["az", "bz", "ac", "bc"]), (0, 0, 0, 1))
+        diary = Diary(start, [2, 0], [(1, "c", 1), (2, "a", 1)])
+        self.assertSame([world.row for world in run_of(diary)], [(1, 0, 1, 1)] * 2)
+        diary = Diary(start, [2, 1], [(1, "c", 1), (2, "a", 1)])
+        self.assertSame([world.row for world in worlds_at(diary, 1)], [(0, 1, 1, 1), (1, 0, 1, 1)])
+        self.assertSame([world.row for world in worlds_at(diary, 2)], [(1, 0, 1, 1), (1, 1, 1, 1)])
+        self.assertSame(is_run(diary, run_of(diary)), True)
+        self.assertSame([is_run(diary, [one, two]) for one in worlds_at(diary, 1) for two in worlds_at(diary, 2)], [
+            False, True, True, True,
+        ])
+
+    def test_lights_in_ascending_order(self):
+        start = World.of_row(web_of("abcde", ["ab", "ac", "ad", "ae"]), (-70, 1000, -5, 33, 8))
+        self.assertSame(may_burn(Diary(start, [1]), 1, "a"), [-70, -5, 8, 33, 1000])
+
     def test_calls(self):
         diary = Diary(sample_world(), [1, None], [(2, "b", 3)])
         after = World.of_row(sample_web(), (5, 3, 3))
@@ -371,6 +388,12 @@ class Along(Case):
         wrong = {"place": 0, "bond": "s", "cause": "shut"}
         self.assertFails(Broken, wrong, diary_along, world, ["s"] * 200, [0, 200], [])
         self.assertFails(OutOfRange, {"number": 201, "low": 0, "high": 200}, diary_along, world, ["s"] * 200, [0, 201], [])
+
+    def test_too_many_sightings_go_ahead_of_broken_and_too_large(self):
+        wrong = {"number": 12, "low": 0, "high": 10}
+        self.assertFails(OutOfRange, wrong, diary_along, path_world(), ["p", "p"], [0, 1, 2], list("abcd"))
+        larger = world_with(101)
+        self.assertFails(OutOfRange, wrong, diary_along, larger, [], [0, 0, 0], larger.web.lamps[:4])
 
     def test_too_large_goes_ahead_of_broken(self):
         larger = world_with(101)

@@ -99,6 +99,11 @@ class Pieces(Case):
             self.assertFails(Unknown, {"name": bad}, piece.without_lamp, bad)
         self.assertSame(piece, Piece(sample_world(), ["a"]))
 
+    def test_a_bond_with_the_name_of_the_lamp_stays(self):
+        web = Web([("a", None), ("b", None), ("c", None)], [("a", "b", "c", None, None), ("b", "a", "c", None, None)])
+        found = Piece(World.flat(web, 0)).without_lamp("a")
+        self.assertSame(found.world.web.bond_rows, [("a", "b", "c", None, None)])
+
     def test_the_only_lamp(self):
         self.assertFails(OutOfRange, {"number": 0, "low": 1, "high": 6}, Piece(lone()).without_lamp, "a")
         self.assertFails(Unknown, {"name": "a"}, Piece(lone(), ["a"]).without_lamp, "a")
