@@ -30,9 +30,17 @@ def upper(end):
     return LIMIT if end is None else end
 
 
-def row_after(row, taker, light):
-    """The row in which the lamp at this place has taken the light."""
-    return row[:taker] + (light,) + row[taker + 1:]
+def useful_arcs(world):
+    """The list of (bond, place of the giver, place of the taker, low, high) of the arcs that let a borne light pass.
+
+    The taker's ceiling counts as a high here.
+    """
+    arcs = [
+        (bond, giver, taker, low, min(high, ceiling))
+        for bond, giver, taker, low, high, ceiling in arcs_of(world.web)
+    ]
+    lights = world.borne
+    return [arc for arc in arcs if any([arc[3] <= light <= arc[4] for light in lights])]
 
 
 def steps_within(world, most):
@@ -40,10 +48,7 @@ def steps_within(world, most):
 
     Raise TooLarge if the futures are more than most.
     """
-    arcs = [
-        (bond, giver, taker, low, min(high, ceiling))
-        for bond, giver, taker, low, high, ceiling in arcs_of(world.web)
-    ]
+    arcs = useful_arcs(world)
     steps = {world.row: []}
     waiting = [world.row]
     while waiting:
@@ -52,7 +57,7 @@ def steps_within(world, most):
         for bond, giver, taker, low, high in arcs:
             light = row[giver]
             if row[taker] < light and low <= light <= high:
-                after = row_after(row, taker, light)
+                after = row[:taker] + (light,) + row[taker + 1:]
                 found.append((bond, after))
                 if after not in steps:
                     steps[after] = []

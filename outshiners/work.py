@@ -1,6 +1,6 @@
 """How an errand runs over a world (point 41), of arguments that are checked already."""
 from outshiners.faults import Halted
-from outshiners.reach import arcs_of, lamp_places, row_after
+from outshiners.reach import arcs_of, lamp_places
 from outshiners.statements import CURRENT
 
 MOST_BEGUN = 300
@@ -85,7 +85,7 @@ class Work:
 
     def do_deed(self, bond, taker, light):
         """Note the deed, and give the light to the lamp at this place."""
-        self.now = row_after(self.now, taker, light)
+        self.now = self.now[:taker] + (light,) + self.now[taker + 1:]
         self.deeds_done.append(bond)
 
 
