@@ -171,6 +171,16 @@ class Often(Case):
         self.assertSame(found, counts_by_words(first, second, 45))
         self.assertSame(found[6], 720 * 64)
 
+    def test_the_least_and_the_greatest_lights(self):
+        ends = [None, -LIMIT, LIMIT]
+        for low, high, ceiling in itertools.product(ends, ends, ends):
+            if low == LIMIT and high == -LIMIT:
+                continue
+            web = Web([("a", None), ("b", ceiling)], [("k", "a", "b", low, high)])
+            for row in itertools.product((-LIMIT, -1, LIMIT), repeat=2):
+                world = World.of_row(web, row)
+                self.assertSame(futures(world), futures_by_words(world))
+
     def test_all_pairs_of_futures(self):
         first = path_world()
         ends = futures_by_words(first)
